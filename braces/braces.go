@@ -5,6 +5,8 @@ import (
 	"iter"
 	"slices"
 	"strings"
+
+	"belfry/words"
 )
 
 // Item is a name, the word between it and its value, and the value.
@@ -14,22 +16,10 @@ type Item struct{ Name, Op, Value string }
 func Text(items iter.Seq[Item]) string {
 	text, ahead := []byte{'{'}, ""
 	for i := range items {
-		text = append(text, ahead+i.Name+i.Op+`"`...)
-		text = append(appendEscaped(text, i.Value), '"')
+		text = append(text, ahead+i.Name+i.Op+words.Quote(i.Value)...)
 		ahead = ","
 	}
 	return string(append(text, '}'))
-}
-
-// appendEscaped tells text with s behind it, a `\` ahead of each `"` and `\` of s.
-func appendEscaped(text []byte, s string) []byte {
-	for i := range len(s) {
-		if s[i] == '"' || s[i] == '\\' {
-			text = append(text, '\\')
-		}
-		text = append(text, s[i])
-	}
-	return text
 }
 
 // Parse tells the items that Text wrote as s; false: it wrote none so.
@@ -70,9 +60,8 @@ func take(ahead, s string, ops []string) (i Item, behind string, ok bool) {
 	s, begun := strings.CutPrefix(s, ahead)
 	name, s := cutName(s, ops)
 	op := longest(s, ops)
-	s, opened := strings.CutPrefix(s[len(op):], `"`)
-	value, behind, closed := takeEscaped(s)
-	if !begun || op == "" || !opened || !closed {
+	value, behind, quoted := words.TakeQuoted(s[len(op):])
+	if !begun || op == "" || !quoted {
 		return Item{}, "", false
 	}
 	// A name of its own, as it would keep the whole text with it.
@@ -98,22 +87,4 @@ func longest(s string, ops []string) string {
 		}
 	}
 	return found
-}
-
-// takeEscaped tells what appendEscaped wrote up to the first `"` without a `\` ahead, and what is behind that; false: it wrote nothing so.
-func takeEscaped(s string) (value, behind string, ok bool) {
-	var plain []byte
-	for i := 0; i < len(s); i++ {
-		if s[i] == '"' {
-			return string(plain), s[i+1:], true
-		}
-		if s[i] == '\\' {
-			i++
-			if i == len(s) || s[i] != '"' && s[i] != '\\' {
-				return "", "", false
-			}
-		}
-		plain = append(plain, s[i])
-	}
-	return "", "", false
 }

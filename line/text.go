@@ -6,10 +6,8 @@ import (
 
 	"belfry/api"
 	"belfry/label"
+	"belfry/words"
 )
-
-// inNumbers: the bytes that numbers are written with.
-const inNumbers = "-0123456789"
 
 // numbers are those of a sample, all of 64 bits, as a text may tell a source that no int holds.
 type numbers struct{ value, time, src, seq int64 }
@@ -69,19 +67,11 @@ func parseNumbers(s string) (numbers, bool) {
 	var n numbers
 	for w := range n.words {
 		behind, begun := strings.CutPrefix(s, w.mark)
-		s = strings.TrimLeft(behind, inNumbers)
-		number, ok := parseNumber(behind[:len(behind)-len(s)])
+		number, rest, ok := words.TakeNumber(behind)
 		if !begun || !ok {
 			return numbers{}, false
 		}
-		*w.number = number
+		*w.number, s = number, rest
 	}
 	return n, s == ""
-}
-
-// parseNumber tells the number that is written as s; false: none is, or no 64 bits hold it.
-func parseNumber(s string) (int64, bool) {
-	// The library reads noughts and a sign ahead that it would not write, and no number as another one.
-	n, _ := strconv.ParseInt(s, 10, 64)
-	return n, strconv.FormatInt(n, 10) == s
 }
